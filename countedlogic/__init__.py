@@ -1,0 +1,1 @@
+"""Formulas of a logic that counts: countedlogic.formulas.answers(calls)."""
