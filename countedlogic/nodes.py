@@ -49,6 +49,20 @@ def renamed(formula, old, new):
     return [(kind, new if name == old else name) for kind, name in formula]
 
 
+def filled(formula, wanted, filling):
+    """The formula filled with another one, the filling, for the wanted name."""
+    turned_filling = dual_of(filling)
+    nodes = []
+    for kind, name in formula:
+        if name != wanted:
+            nodes.append((kind, name))
+        elif kind == PLAIN:
+            nodes.extend(filling)
+        else:
+            nodes.extend(turned_filling)
+    return nodes
+
+
 def kind_count(formula, wanted):
     """How many nodes are of the wanted kind."""
     return len([kind for kind, name in formula if kind == wanted])
@@ -83,7 +97,7 @@ def depth_of(formula):
 
 def in_bounds(formula):
     """Whether the formula has no more atoms, nodes and depth than one may have."""
-    if atom_count(formula) > MOST_ATOMS or len(formula) > MOST_NODES:
+    if len(formula) > MOST_NODES or atom_count(formula) > MOST_ATOMS:
         return False
     return depth_of(formula) <= MOST_DEPTH
 

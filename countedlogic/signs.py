@@ -3,6 +3,7 @@
 BLANK = 32
 OPENING = 40
 CLOSING = 41
+COMMA = 44
 TILDE = 126
 # The two bytes of -o
 DASH = 45

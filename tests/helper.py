@@ -5,6 +5,9 @@ from countedlogic.formulas import answers
 FAR = 10 ** 18
 # Numbers that are none of a formula held.
 NOT_HELD = (-1, 10, -2, 11, 255, FAR, -FAR)
+# Texts that are no names.
+NO_NAMES = ("", "1", "1a", "A", "aB", "a b", " a", "a ", "~a", "a*b", "abcdefghijklm", "a" * 2100, "a-", "a_b",
+            [96], [123], [97, 47], [97, 58], [97, 96], [97, 123], [0], [97, 0], [255], [225])
 
 
 def octets(text):
@@ -46,6 +49,34 @@ def build(o, i, j, k):
 
 def rename(k, first, second):
     return [7, k] + row(first) + row(second)
+
+
+def fill(i, j, k, name):
+    return [8, i, j, k] + row(name)
+
+
+def truth(k, choice):
+    return [9, k] + row(choice)
+
+
+def always(k):
+    return [10, k]
+
+
+def same(i, j):
+    return [11, i, j]
+
+
+def case(i, j):
+    return [12, i, j]
+
+
+def sequent(text):
+    return [13] + row(text)
+
+
+def bag(one, other):
+    return [14] + row(one) + row(other)
 
 
 def ask(*calls):

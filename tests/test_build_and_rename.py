@@ -2,10 +2,8 @@
 
 import unittest
 
-from tests.helper import FAR, NOT_HELD, ask, atoms, build, chain, dual, form_after, forms_of_all, last, read, rename
-
-NO_NAMES = ("", "1", "1a", "A", "aB", "a b", " a", "a ", "~a", "a*b", "abcdefghijklm", "a" * 2100, "a-", "a_b",
-            [96], [123], [97, 47], [97, 58], [97, 96], [97, 123], [0], [97, 0], [255], [225])
+from tests.helper import FAR, NO_NAMES, NOT_HELD, ask, atoms, build, chain, dual, form_after, forms_of_all, last, read
+from tests.helper import rename
 
 
 class Build(unittest.TestCase):

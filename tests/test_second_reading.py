@@ -5,7 +5,8 @@ import re
 import sys
 import unittest
 
-from tests.helper import ask, atoms, dual, form, octets, part, read, size
+from tests.helper import always, ask, atoms, bag, build, case, dual, fill, form, octets, part, read, same, sequent, size
+from tests.helper import truth
 
 TOKEN = re.compile(r" +|[a-z0-9]+|[~*|&+!?()]|-o")
 NAME = re.compile(r"[a-z][a-z0-9]{0,11}\Z")
@@ -257,7 +258,8 @@ class SecondReading(unittest.TestCase):
         sys.setrecursionlimit(depth + 30)
         try:
             for text in texts:
-                ask(read(0, text), form(0), dual(0, 1), part(0, [0] * 30), size(0), atoms(0))
+                ask(read(0, text), form(0), dual(0, 1), part(0, [0] * 30), size(0), atoms(0), fill(0, 0, 2, "a"),
+                    truth(0, "a"), always(0), same(0, 1), case(0, 0), sequent(text), bag(text, text), build(4, 0, 0, 3))
         finally:
             sys.setrecursionlimit(limit)
 
